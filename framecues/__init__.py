@@ -1,0 +1,1 @@
+"""Framecues: animations and transitions by timelines."""
