@@ -1,7 +1,8 @@
 """Curves: tuples that lead an input to a value, both fractions."""
 
 from framecues.errors import NoCurve, NoFlag, NoNumber
-from framecues.ratios import ONE, ZERO, is_ratio, is_whole, less, minus, over, plus, ratio, spread_evenly, times
+from framecues.ratios import ONE, ZERO, even_place, even_step, is_ratio, is_whole, less, minus, over, plus, ratio
+from framecues.ratios import spread_evenly, times
 
 
 def is_curve(thing):
@@ -25,8 +26,13 @@ def value_at(curve, x, before=False):
         raise NoNumber("x is no fraction")
     if not isinstance(before, bool):
         raise NoFlag("before is neither True nor False")
+    return curve_value(curve, x, before)
+
+
+def curve_value(curve, x, before):
+    """As value_at, for what is known to be a curve, a fraction and a flag."""
     if curve[0] == "linear":
-        return _line_value(_settled_points(curve[1]), x)
+        return _line_value(curve[1], x)
     if curve[0] == "cubic":
         return _cubic_value(curve[1], curve[2], x)
     return _step_value(curve[1], curve[2], x, before)
@@ -55,13 +61,13 @@ def rises(curve):
 def _are_points(thing):
     if not isinstance(thing, tuple) or len(thing) == 0:
         return False
-    return all([_is_point(point) for point in thing])
-
-
-def _is_point(thing):
-    if not isinstance(thing, tuple) or len(thing) != 2:
-        return False
-    return is_ratio(thing[0]) and (thing[1] is None or is_ratio(thing[1]))
+    for point in thing:
+        if not isinstance(point, tuple) or len(point) != 2:
+            return False
+        value, place = point
+        if not is_ratio(value) or not (place is None or is_ratio(place)):
+            return False
+    return True
 
 
 def _are_steps(count, where):
@@ -88,26 +94,74 @@ def _lifted(places):
     lifted = []
     greatest = places[0]
     for place in places:
-        if place is not None and less(greatest, place):
+        if place is None:
+            lifted.append(None)
+            continue
+        # This is less(greatest, place) without a call: there may be many points.
+        if greatest[0] * place[1] < place[0] * greatest[1]:
             greatest = place
-        lifted.append(None if place is None else greatest)
+        lifted.append(greatest)
     return lifted
 
 
 def _line_value(points, x):
-    """The value of the linear curve through settled points."""
+    """The value of the linear curve through points; their inputs need not be settled."""
     if len(points) == 1:
         return points[0][0]
-    first = 0
-    for at in range(1, len(points) - 1):
-        if not less(x, points[at][1]):
-            first = at
-    low, low_place = points[first]
-    high, high_place = points[first + 1]
+    first, low_place, high_place = _stretch(points, x)
+    low = points[first][0]
+    high = points[first + 1][0]
     if low_place == high_place:
         return high
     part = over(minus(x, low_place), minus(high_place, low_place))
     return plus(low, times(minus(high, low), part))
+
+
+def _stretch(points, x):
+    """The index of the point from which the line leads on at x, with its settled input and that of the next.
+
+    Only the inputs beside x are spread, as the other ones do not matter.
+    """
+    low, low_place, high, high_place = _told_stretch(points, x)
+    count = high - low
+    if count == 1:
+        return low, low_place, high_place
+    if less(x, low_place):
+        gone = 0
+    elif not less(x, high_place):
+        gone = count - 1
+    else:
+        gone = even_place(low_place, high_place, count, x)
+    start = even_step(low_place, high_place, gone, count)
+    return low + gone, start, even_step(low_place, high_place, gone + 1, count)
+
+
+def _told_stretch(points, x):
+    """Index and settled input of the last told point not behind x, but the first one if there is none,
+    and those of the next told point; of the last two told points if x is not ahead of the last one."""
+    top, bottom = x
+    last = len(points) - 1
+    low = 0
+    low_place = points[0][1]
+    if low_place is None:
+        low_place = ZERO
+    for at in range(1, last):
+        place = points[at][1]
+        if place is None:
+            continue
+        # This is less(place, low_place), and below less(x, place), without calls: there may be many points.
+        if place[0] * low_place[1] < low_place[0] * place[1]:
+            place = low_place
+        if top * place[1] < place[0] * bottom:
+            return low, low_place, at, place
+        low = at
+        low_place = place
+    place = points[last][1]
+    if place is None:
+        place = ONE
+    if less(place, low_place):
+        place = low_place
+    return low, low_place, last, place
 
 
 def _cubic_value(a, b, x):

@@ -16,9 +16,10 @@ def is_ratio(thing):
     if not isinstance(thing, tuple) or len(thing) != 2:
         return False
     top, bottom = thing
-    if not is_whole(top) or not is_whole(bottom):
+    # Plain integers are told at one look: curves of many points ask often.
+    if not (type(top) is int and type(bottom) is int) and not (is_whole(top) and is_whole(bottom)):
         return False
-    return bottom >= 1 and gcd(top, bottom) == 1
+    return bottom == 1 or (bottom > 1 and gcd(top, bottom) == 1)
 
 
 def ratio(top, bottom):
@@ -63,12 +64,21 @@ def spread_evenly(places):
     told = 0
     for at in range(1, len(places)):
         if places[at] is not None:
-            spread.extend(_even_steps(places[told], places[at], at - told))
+            for k in range(1, at - told):
+                spread.append(even_step(places[told], places[at], k, at - told))
+            spread.append(places[at])
             told = at
     return spread
 
 
-def _even_steps(low, high, count):
-    """The ends of count equal steps that lead from low to high."""
-    step = over(minus(high, low), (count, 1))
-    return [plus(low, times(step, (k, 1))) for k in range(1, count + 1)]
+def even_step(low, high, k, count):
+    """The end of step k, if count equal steps lead from low to high."""
+    bottom = low[1] * high[1]
+    return ratio(low[0] * high[1] * (count - k) + high[0] * low[1] * k, bottom * count)
+
+
+def even_place(low, high, count, x):
+    """The number of whole ones of count equal steps from low to high that lead up to x; high is above low."""
+    way = minus(high, low)
+    gone = minus(x, low)
+    return gone[0] * way[1] * count // (gone[1] * way[0])

@@ -41,8 +41,11 @@ def settled_places(curve):
 
 
 def line_value(curve, x):
-    places = settled_places(curve)
-    values = [read(value) for value, _ in curve[1]]
+    return placed_value([read(value) for value, _ in curve[1]], settled_places(curve), x)
+
+
+def placed_value(values, places, x):
+    """The value at x of the line with these values at these settled inputs."""
     if len(values) == 1:
         return values[0]
     fitting = [at for at in range(len(values) - 1) if places[at] <= x]

@@ -8,7 +8,7 @@ import unittest
 ROOT = pathlib.Path(__file__).resolve().parent.parent
 PACKAGE = ROOT / "framecues"
 BUILTINS = """len range enumerate zip min max sum abs sorted reversed int str bool bytes list tuple dict set isinstance
-any all ValueError super""".split()
+any all type ValueError super""".split()
 
 
 def nodes(path):

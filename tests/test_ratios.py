@@ -2,7 +2,8 @@ import itertools
 import unittest
 from fractions import Fraction
 
-from framecues.ratios import is_ratio, is_whole, less, minus, over, plus, ratio, spread_evenly, times
+from framecues.ratios import even_place, even_step, is_ratio, is_whole, less, minus, over, plus, ratio
+from framecues.ratios import spread_evenly, times
 from reckoning import read, told
 from strange import NO_FRACTIONS, OTHERS
 
@@ -34,6 +35,14 @@ class RatiosTest(unittest.TestCase):
             self.assertIs(less(told(a), told(b)), a < b)
             if b != 0:
                 self.assertEqual(over(told(a), told(b)), told(a / b))
+
+    def test_even_steps(self):
+        for low, high in itertools.product(NUMBERS, repeat=2):
+            for k in range(4):
+                self.assertEqual(read(even_step(told(low), told(high), k, 3)), low + (high - low) * k / 3)
+            if low < high:
+                for x in NUMBERS:
+                    self.assertEqual(even_place(told(low), told(high), 3, told(x)), (x - low) * 3 // (high - low))
 
     def test_spreading(self):
         self.assertEqual(spread_evenly([(5, 1)]), [(5, 1)])

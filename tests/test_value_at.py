@@ -2,8 +2,9 @@ import itertools
 import unittest
 from fractions import Fraction
 
-from framecues.curves import value_at
-from reckoning import cubic, cubic_value, line, line_value, read, steps_value, told
+from framecues.curves import settled, value_at
+from framecues.errors import NoCurve, NoFlag, NoNumber
+from reckoning import cubic, cubic_value, line, line_value, placed_value, read, settled_places, steps_value, told
 
 HALF = Fraction(1, 2)
 GRID = [Fraction(k, 12) for k in range(-18, 31)]
@@ -79,6 +80,56 @@ class LineTest(unittest.TestCase):
         curve = line((Fraction(1, high), 0), (high, Fraction(high, high - 1)))
         x = Fraction(high - 2, high)
         self.assertTrue(value_at(curve, told(x)) == told(line_value(curve, x)))
+
+
+class ManyPointsTest(unittest.TestCase):
+    """Lines of 130 points, asked at many inputs one after another."""
+
+    VALUES = [k * k % 17 - 5 for k in range(130)]
+
+    def check(self, places):
+        curve = line(*zip(self.VALUES, places))
+        values = [Fraction(value) for value in self.VALUES]
+        whole = settled_places(curve)
+        inputs = [Fraction(2 * j + 1, 2) for j in range(200)] + [Fraction(-7), Fraction(10 ** 9)]
+        for place in whole:
+            inputs = inputs + [place - Fraction(1, 1000), place, place + Fraction(1, 1000)]
+        for x in inputs:
+            wanted = told(placed_value(values, whole, x))
+            for flag in (False, True):
+                self.assertEqual(value_at(curve, told(x), flag), wanted, x)
+                self.assertEqual(value_at(settled(curve), told(x), flag), wanted, x)
+
+    def test_told_inputs(self):
+        self.check(list(range(130)))
+        self.check([Fraction(k * k, 130) for k in range(130)])
+
+    def test_told_inputs_that_fall_and_stay(self):
+        self.check([k * 7 % 50 + k // 3 for k in range(130)])
+        self.check([k // 4 for k in range(130)])
+        self.check([50 - k for k in range(130)])
+
+    def test_missing_inputs(self):
+        self.check([None] * 130)
+
+    def test_mixed_inputs(self):
+        self.check([k if k % 3 == 0 else None for k in range(130)])
+        self.check([None if k % 5 else 60 - k // 2 for k in range(130)])
+        self.check([None] * 40 + [7] + [None] * 40 + [5, 6, None, 8] + [None] * 45)
+
+    def test_each_call_is_looked_at_anew(self):
+        curve = line(*[(k, k) for k in range(130)])
+        self.assertEqual(value_at(curve, (5, 2)), (5, 2))
+        spoilt = ("linear", curve[1][:129] + (((2, 4), (129, 1)),))
+        for wrong, x, flag, error in (
+            (spoilt, (5, 2), False, NoCurve),
+            (("linear", list(curve[1])), (5, 2), False, NoCurve),
+            (curve, (10, 4), False, NoNumber),
+            (curve, (5, 2), 1, NoFlag),
+        ):
+            with self.assertRaises(error):
+                value_at(wrong, x, flag)
+        self.assertEqual(value_at(curve, (5, 2), True), (5, 2))
 
 
 class CubicTest(unittest.TestCase):
