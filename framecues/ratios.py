@@ -50,6 +50,21 @@ def over(a, b):
     return ratio(a[0] * b[1], a[1] * b[0])
 
 
+def negated(a):
+    """-a."""
+    return (-a[0], a[1])
+
+
+def whole(a):
+    """The greatest integer that is not above a."""
+    return a[0] // a[1]
+
+
+def rest(a):
+    """What a is above its whole number."""
+    return (a[0] % a[1], a[1])
+
+
 def less(a, b):
     """Whether a < b."""
     return a[0] * b[1] < b[0] * a[1]
