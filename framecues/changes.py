@@ -90,7 +90,7 @@ def _is_counting(player, inside):
     if node is None or node.spans.length in (ZERO, ENDLESS):
         return False
     elapsed = facts_of(node, inside, player.sign())[1]
-    return elapsed is not None and elapsed == minus(inside, node.timing[0])
+    return elapsed == minus(inside, node.timing[0])
 
 
 def _next_border(node, place, sign):

@@ -59,7 +59,7 @@ class Group(Node):
             self.leaves.extend(child.leaves)
         measure(self)
 
-    def twin(self, nodes):
+    def twin_over(self, nodes):
         """A group like this one, whose children are those of nodes."""
         return Group(self.kind, self.name, self.timing, [nodes[child.name] for child in self.children])
 

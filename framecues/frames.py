@@ -60,7 +60,7 @@ def _remove_covered(scene, ranked):
 
 
 def _is_replaceable(player):
-    if player.kind != "plain" or player.mark == "removed" or player.effect is None:
+    if player.kind != "plain" or player.mark == "removed":
         return False
     if player.line is None or player.line.kind != "clock" or player.condition() != "finished":
         return False

@@ -103,8 +103,7 @@ def _stretch(frames, progress):
         return last, last
     first = 0
     for at in range(1, last):
-        offset = frames[at][0]
-        if offset != ONE and not less(progress, offset):
+        if not less(progress, frames[at][0]):
             first = at
     return first, first + 1
 

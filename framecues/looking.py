@@ -23,7 +23,7 @@ def look(scene, player, sought=False, at_once=False):
 
 def _hold_or_let_go(player, place, sought):
     speed = player.speed
-    if speed[0] != 0 and player.is_past(place, speed):
+    if player.is_past(place, speed):
         player.held = place if sought else _furthest(player)
     elif speed[0] != 0:
         moment = player.line_time()

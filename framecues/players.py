@@ -49,7 +49,7 @@ class Player:
         self.mark = "active"
         self.seen = ("idle", None, None)
 
-    def twin(self, line, effect):
+    def twin_on(self, line, effect):
         """A player like this one, on these."""
         player = Player(self.name, self.kind, line, effect)
         player.began = self.began
@@ -130,7 +130,7 @@ class Player:
             return None
         return plus(self.began, over(place, self.speed))
 
-    def full(self, queued):
+    def whole_state(self, queued):
         """The full state; queued is 1 if a finish is queued, otherwise 0."""
         head = (self.began, self.held, self.speed, self.speed_then, self.task, self.earlier, self.ready, self.ended)
         line_name = None if self.line is None else self.line.name

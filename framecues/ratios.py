@@ -16,8 +16,8 @@ def is_ratio(thing):
     if not isinstance(thing, tuple) or len(thing) != 2:
         return False
     top, bottom = thing
-    # Plain integers are told at one look: curves of many points ask often.
-    if not (type(top) is int and type(bottom) is int) and not (is_whole(top) and is_whole(bottom)):
+    # This is is_whole of both without calls: curves of many points ask often.
+    if not isinstance(top, int) or not isinstance(bottom, int) or isinstance(top, bool) or isinstance(bottom, bool):
         return False
     return bottom == 1 or (bottom > 1 and gcd(top, bottom) == 1)
 
@@ -78,12 +78,28 @@ def spread_evenly(places):
     spread = [places[0]]
     told = 0
     for at in range(1, len(places)):
-        if places[at] is not None:
-            for k in range(1, at - told):
-                spread.append(even_step(places[told], places[at], k, at - told))
-            spread.append(places[at])
-            told = at
+        place = places[at]
+        if place is None:
+            continue
+        if at - told > 1:
+            spread.extend(_inner_steps(places[told], place, at - told))
+        spread.append(place)
+        told = at
     return spread
+
+
+def _inner_steps(low, high, count):
+    """The ends of all but the last of count equal steps that lead from low to high."""
+    bottom = low[1] * high[1] * count
+    start = low[0] * high[1] * count
+    step = high[0] * low[1] - low[0] * high[1]
+    steps = []
+    for k in range(1, count):
+        # This is ratio without a call: there may be many steps.
+        top = start + step * k
+        shared = gcd(top, bottom)
+        steps.append((top // shared, bottom // shared))
+    return steps
 
 
 def even_step(low, high, k, count):

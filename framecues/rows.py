@@ -123,6 +123,7 @@ def _is_change(thing):
     return is_name(thing[0]) and is_name(thing[1]) and is_ratio(thing[2])
 
 
+# Each kind is one of some words or has a test. The tests are functions of this file, so that some only call others.
 WORDS = {
     "mode": ("replace", "add"),
     "going": ("anew", "on"),

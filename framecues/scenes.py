@@ -85,7 +85,7 @@ class Scene:
 
     def full(self, player):
         """The full state of a player."""
-        return player.full(1 if player.name in self.queue else 0)
+        return player.whole_state(1 if player.name in self.queue else 0)
 
     def twin(self):
         """A scene like this one that goes its own way."""
@@ -130,7 +130,7 @@ def _twin_nodes(nodes):
     """Effects and groups like these; children stand ahead of their groups."""
     twins = {}
     for name, node in nodes.items():
-        twin = node.twin(twins) if isinstance(node, Group) else node.twin()
+        twin = node.twin_over(twins) if isinstance(node, Group) else node.twin()
         twin.owner = node.owner
         twins[name] = twin
     return twins
@@ -143,4 +143,4 @@ def _twin_player(player, lines, nodes):
     # The effect of a transition has no name; as it never changes, all scenes may share it.
     if effect is not None and effect.name is not None:
         effect = nodes[effect.name]
-    return player.twin(line, effect)
+    return player.twin_on(line, effect)

@@ -7,6 +7,7 @@ from fractions import Fraction
 from framecues import stages
 from framecues.errors import NoName, NoRow, Refused
 from framecues.stages import Stage, replayed
+from histories import Calm, Draw, Ways, history
 from making import ONE, STRAIGHT, effect, frame, keys, lead, n, player, playing, stage, timing
 from strange import ALL, NEAR_FRACTIONS
 
@@ -183,6 +184,19 @@ class CopyTest(unittest.TestCase):
             lead(twin, row)
             self.assertTrue(twin == made, row)
             self.assertEqual([twin.notes(), twin.log(), twin.waiting()], [made.notes(), made.log(), made.waiting()])
+
+    def test_all_parts_are_copied(self):
+        for kind in (Draw, Calm, Ways):
+            for seed in range(60):
+                made = history(seed, 30, kind)
+                twin = made.copy()
+                self.assertTrue(twin == made)
+                self.assertEqual([twin.full(name) for name in twin.players()], [made.full(name) for name in made.players()])
+
+    def test_what_is_kept_or_removed_stays_so(self):
+        made = lead(playing(timing(fill="both")), effect("f", timing(fill="both")), player("q", "f"), ("keep", "q"))
+        lead(made, ("finish", "p"), ("finish", "q"), frame(1))
+        self.assertEqual([made.copy().marks(name)[2] for name in ("p", "q")], ["removed", "kept"])
 
     def test_a_copy_of_a_copy(self):
         made = busy().copy().copy()

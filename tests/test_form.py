@@ -8,7 +8,7 @@ import unittest
 ROOT = pathlib.Path(__file__).resolve().parent.parent
 PACKAGE = ROOT / "framecues"
 BUILTINS = """len range enumerate zip min max sum abs sorted reversed int str bool bytes list tuple dict set isinstance
-any all type ValueError super""".split()
+any all ValueError super""".split()
 METHODS = """append clear copy count endswith extend find get index insert isalnum isalpha isdigit islower isspace isupper
 items join keys ljust lower lstrip partition pop remove replace reverse rfind rjust rpartition rsplit rstrip setdefault
 split splitlines startswith strip update upper values zfill bit_length isascii""".split()
@@ -151,14 +151,12 @@ class StatementsTest(unittest.TestCase):
                     for node in ast.walk(part.value):
                         self.assertIsInstance(node, allowed, (path, part.lineno))
 
-    def test_is_stands_beside_none_and_plain_kinds_alone(self):
+    def test_is_stands_beside_none_alone(self):
         for path in self.files:
             for node in nodes(path):
                 if isinstance(node, ast.Compare) and isinstance(node.ops[0], (ast.Is, ast.IsNot)):
                     right = node.comparators[0]
-                    kind = isinstance(right, ast.Name) and right.id in ("int", "str", "bool", "tuple", "list")
-                    none = isinstance(right, ast.Constant) and right.value is None
-                    self.assertTrue(none or kind, (path, node.lineno))
+                    self.assertTrue(isinstance(right, ast.Constant) and right.value is None, (path, node.lineno))
 
 
 class NamesTest(unittest.TestCase):
@@ -170,12 +168,6 @@ class NamesTest(unittest.TestCase):
             for node in nodes(path):
                 if isinstance(node, ast.Name) and node.id in BUILT_IN:
                     self.assertIn(node.id, BUILTINS, path)
-
-    def test_type_is_called_alone(self):
-        for path in self.files:
-            called = [node.func for node in nodes(path) if isinstance(node, ast.Call)]
-            named = [node for node in nodes(path) if isinstance(node, ast.Name) and node.id == "type"]
-            self.assertEqual(len(named), sum(isinstance(node, ast.Name) and node.id == "type" for node in called), path)
 
     def test_no_local_has_the_name_of_an_import_a_class_or_a_builtin(self):
         for path in self.files:
@@ -222,6 +214,15 @@ class NamesTest(unittest.TestCase):
             for node in nodes(path):
                 names = [getattr(node, part, None) for part in ("id", "name", "attr", "arg")]
                 for name in names:
-                    self.assertTrue(name == "type" or name not in NO_WORDS, (path, name))
+                    self.assertNotIn(name, NO_WORDS, path)
                 if isinstance(node, ast.Constant) and isinstance(node.value, str):
                     self.assertNotIn("%", node.value.replace("\n", ""), path)
+
+    def test_methods_of_one_name_take_the_same_arguments(self):
+        counts = {}
+        for path in self.files:
+            for found in classes(path):
+                for part in found.body:
+                    if isinstance(part, ast.FunctionDef) and part.name != "__init__":
+                        counts.setdefault(part.name, set()).add((len(part.args.args), len(part.args.defaults)))
+        self.assertEqual([name for name in counts if len(counts[name]) > 1], [])

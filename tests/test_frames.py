@@ -210,6 +210,16 @@ class RemovalTest(unittest.TestCase):
         self.assertEqual(self.marks(made, "a", "m", "z"), ["removed", "removed", "active"])
         self.assertEqual([event[1] for event in events(made, "remove")], ["a", "m"])
 
+    def test_a_removed_one_does_not_cover(self):
+        rows = [effect(name, BOTH) for name in ("d", "e", "f")]
+        rows += [("clock", "c"), player("a", "d"), player("m", "e"), player("z", "f")]
+        made = stage(*rows, ("play", "m"), ("play", "z"), frame(0), frame(10))
+        self.assertEqual(self.marks(made, "m", "z"), ["removed", "active"])
+        lead(made, ("cancel", "z"), ("play", "a"), frame(11), frame(30))
+        self.assertEqual([made.state("a"), self.marks(made, "a", "m")], ["finished", ["active", "removed"]])
+        lead(made, ("keep", "m"), frame(31))
+        self.assertEqual(self.marks(made, "a", "m"), ["removed", "kept"])
+
     def test_each_target_and_property_is_covered_somewhere(self):
         both = tuple((offset, None, BOTH[7], (("x", n(1)), ("y", n(1)))) for offset in (None, None))
         parts = {"d": both, "e": keys(1, 2, name="x"), "f": keys(1, 2, name="y")}
